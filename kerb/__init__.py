@@ -1,0 +1,1 @@
+"""Kerb: rounds through all sides of all streets."""

@@ -1,0 +1,63 @@
+"""The refusals: point [2], its last sentence, and the interface's part kerb/errors.py."""
+
+import unittest
+
+from kerb import errors
+from kerb.towns import begin_of, end_of, fitted, length_of
+from kerb.words import words_of
+
+REFUSALS = ("NoText", "Unfit", "Unknown", "TooMany", "NoRound", "NoTown")
+
+TOWN = ("a", (("s", "a", "b", 3, 2),), ())
+UNFIT = ("a", (("s", "a", "b", 0, 2),), ())
+
+DEEDS = (
+    ("NoText", lambda: words_of("a  b")),
+    ("Unfit", lambda: fitted(UNFIT)),
+    ("Unknown", lambda: begin_of(TOWN, "t>")),
+    ("Unknown", lambda: end_of(TOWN, "t>")),
+    ("Unknown", lambda: length_of(TOWN, "t>")),
+)
+
+
+class Classes(unittest.TestCase):
+    def test_the_base_is_a_value_error(self):
+        self.assertTrue(issubclass(errors.KerbError, ValueError))
+
+    def test_the_base_is_none_of_the_refusals(self):
+        for name in REFUSALS:
+            self.assertFalse(issubclass(errors.KerbError, getattr(errors, name)), name)
+
+    def test_each_refusal_stands_under_the_base(self):
+        for name in REFUSALS:
+            self.assertTrue(issubclass(getattr(errors, name), errors.KerbError), name)
+
+    def test_no_refusal_stands_under_another(self):
+        for one in REFUSALS:
+            for other in REFUSALS:
+                if one != other:
+                    self.assertFalse(issubclass(getattr(errors, one), getattr(errors, other)), (one, other))
+
+    def test_each_can_be_raised_and_taken(self):
+        for name in REFUSALS:
+            for taken in (getattr(errors, name), errors.KerbError, ValueError):
+                with self.assertRaises(taken):
+                    raise getattr(errors, name)("told")
+
+
+class Deeds(unittest.TestCase):
+    def test_each_refusal_is_of_its_own_class(self):
+        for name, deed in DEEDS:
+            with self.assertRaises(errors.KerbError) as caught:
+                deed()
+            self.assertIs(caught.exception.__class__, getattr(errors, name))
+
+    def test_the_base_and_value_error_take_each_refusal(self):
+        for name, deed in DEEDS:
+            for taken in (errors.KerbError, ValueError):
+                with self.assertRaises(taken, msg=name):
+                    deed()
+
+
+if __name__ == "__main__":
+    unittest.main()
