@@ -30,10 +30,16 @@ def length_of(town, side):
 
 
 def course_of(town, side):
+    return known_courses(town, [side])[side]
+
+
+# The courses of the whole town, refused if one of the sides asked of is a stranger.
+def known_courses(town, sides):
     courses = courses_of(town)
-    if side not in courses:
-        raise Unknown(f"{side!r} is no side of the town")
-    return courses[side]
+    for side in sides:
+        if side not in courses:
+            raise Unknown(f"{side!r} is no side of the town")
+    return courses
 
 
 # One dict, in the sides' order, gives each side its (begin, end, length),

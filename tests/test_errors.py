@@ -3,7 +3,10 @@
 import unittest
 
 from kerb import errors
+from kerb.reach import cut, length_all
+from kerb.reader import read
 from kerb.towns import begin_of, end_of, fitted, length_of
+from kerb.turns import may_turn, turns_from, turns_into
 from kerb.words import words_of
 
 REFUSALS = ("NoText", "Unfit", "Unknown", "TooMany", "NoRound", "NoTown")
@@ -17,6 +20,18 @@ DEEDS = (
     ("Unknown", lambda: begin_of(TOWN, "t>")),
     ("Unknown", lambda: end_of(TOWN, "t>")),
     ("Unknown", lambda: length_of(TOWN, "t>")),
+    ("Unknown", lambda: turns_from(TOWN, "t>")),
+    ("Unknown", lambda: turns_into(TOWN, "t>")),
+    ("Unknown", lambda: may_turn(TOWN, "t>", "s>")),
+    ("Unknown", lambda: may_turn(TOWN, "s>", "t>")),
+    ("NoText", lambda: read("")),
+    ("NoText", lambda: read(None)),
+    ("NoText", lambda: read("yard a\n\n")),
+    ("NoText", lambda: read("yard a\nstreet s a b 0")),
+    ("Unfit", lambda: read("yard a\nstreet s a b 1\nlane s a b 1")),
+    ("Unfit", lambda: read("yard a\nstreet s a b 1\nban s< s>")),
+    ("Unknown", lambda: length_all(TOWN, ["s>", "t>"])),
+    ("Unknown", lambda: cut(TOWN, "t>")),
 )
 
 

@@ -5,24 +5,10 @@ import unittest
 
 from kerb.errors import Unfit, Unknown
 from kerb.towns import begin_of, end_of, fits, fitted, length_of, sides_of
+from tests.samples import BEGINS, ENDS, LENGTHS, NO_SIDES, SIDES, STREETS
 
-# A two-way street, a lane, two streets between the same corners, a loop both ways and a loop one way.
-STREETS = (
-    ("main", "a", "b", 5, 2),
-    ("lane", "b", "c", 7, 1),
-    ("back", "c", "b", 2, 2),
-    ("ring", "c", "c", 3, 2),
-    ("spin", "b", "b", 4, 1),
-)
-SIDES = ["main>", "main<", "lane>", "back>", "back<", "ring>", "ring<", "spin>"]
-BEGINS = ["a", "b", "b", "c", "b", "c", "c", "b"]
-ENDS = ["b", "a", "c", "b", "c", "c", "c", "b"]
-LENGTHS = [5, 5, 7, 2, 2, 3, 3, 4]
 BANS = (("main>", "lane>"), ("lane>", "back>"), ("ring>", "ring<"), ("spin>", "spin>"))
 TOWN = ("a", STREETS, BANS)
-
-NO_SIDES = ("", ">", "<", "main", "lane<", "spin<", "other>", "other<", "Main>", "main>>", "main> ", " main>",
-            "main>\n", "main\t>", ">main", "a", "b", "main=", "lane>lane>", "abcdefghi>")
 
 
 def with_street(length, ways):
