@@ -15,6 +15,21 @@ BEGINS = ["a", "b", "b", "c", "b", "c", "c", "b"]
 ENDS = ["b", "a", "c", "b", "c", "c", "c", "b"]
 LENGTHS = [5, 5, 7, 2, 2, 3, 3, 4]
 EMPTY = ("a", (), ())
+BANS = (("main>", "lane>"), ("back<", "back>"), ("ring>", "ring<"), ("spin>", "spin>"))
+
+# A street at the yard; lanes that lead away and never home; a lane that leads home from where none comes;
+# a street that hangs together with nothing.
+APART = (
+    "a",
+    (
+        ("main", "a", "b", 5, 2),
+        ("away", "b", "c", 1, 1),
+        ("end", "c", "d", 2, 2),
+        ("from", "e", "a", 3, 1),
+        ("isle", "x", "y", 4, 2),
+    ),
+    (),
+)
 
 NO_SIDES = ("", ">", "<", "main", "lane", "lane<", "spin<", "other>", "other<", "Main>", "main>>", "main> ", " main>",
             "main>\n", "main\t>", ">main", "a", "b", "main=", "lane>lane>", "main>main<", "abcdefghi>")
@@ -28,6 +43,12 @@ def corners_of(town):
         if ways == 2:
             corners[name + "<"] = (second, first)
     return corners
+
+
+# All (one, other) such that one may turn from the one into the other.
+def all_allowed(town):
+    corners = corners_of(town)
+    return {(one, other) for one in corners for other in corners if corners[one][1] == corners[other][0]} - set(town[2])
 
 
 def is_allowed(town, one, other):
@@ -48,3 +69,75 @@ def numbered_town(number, most_streets=9, most_figures=1):
     places = corners_of((yard, streets, ()))
     meeting = [(one, other) for one in places for other in places if places[one][1] == places[other][0] != yard]
     return (yard, streets, tuple(chance.sample(meeting, min(len(meeting), chance.randrange(0, 21)))))
+
+
+def lengths_of(town):
+    lengths = {}
+    for name, first, second, length, ways in town[1]:
+        lengths[name + ">"] = length
+        if ways == 2:
+            lengths[name + "<"] = length
+    return lengths
+
+
+# The prices of points [12] and [13], by their words: of each two sides between which a walk leads; "" stands for the
+# yard, so ("", side) has the price out and (side, "") the price home. Side by side is let lie between.
+def prices_by_words(town):
+    corners = corners_of(town)
+    lengths = lengths_of(town)
+    prices = {pair: 0 for pair in all_allowed(town)}
+    prices.update({("", side): 0 for side in corners if corners[side][0] == town[0]})
+    prices.update({(side, ""): 0 for side in corners if corners[side][1] == town[0]})
+    for middle in corners:
+        firsts = [one for one in ["", *corners] if (one, middle) in prices]
+        lasts = [other for other in ["", *corners] if (middle, other) in prices]
+        ahead = {one: prices[(one, middle)] + lengths[middle] for one in firsts}
+        behind = {other: prices[(middle, other)] for other in lasts}
+        for one in firsts:
+            for other in lasts:
+                price = ahead[one] + behind[other]
+                prices[(one, other)] = min(price, prices.get((one, other), price))
+    return prices
+
+
+def served_by_words(town):
+    prices = prices_by_words(town)
+    return [side for side in corners_of(town) if ("", side) in prices and (side, "") in prices]
+
+
+# A yard with one street to a corner of loops. Each loop may be a ring by itself, and there are so many bans between
+# them that rings often cannot be exchanged.
+def looped_town(number, most_loops=6, most_bans=20):
+    chance = random.Random(f"loops {number}")
+    streets = (("main", "a", "b", chance.randrange(1, 10), 2),) + tuple(
+        ("o" + chr(ord("a") + k), "b", "b", chance.randrange(1, 10), chance.choice((1, 1, 2)))
+        for k in range(chance.randrange(1, most_loops + 1)))
+    places = corners_of(("a", streets, ()))
+    meeting = [(one, other) for one in places for other in places
+               if places[one][1] == places[other][0] == "b" and one != other and (one, other) != ("main>", "main<")]
+    return ("a", streets, tuple(chance.sample(meeting, min(len(meeting), chance.randrange(0, most_bans + 1)))))
+
+
+# A ring of lanes through all corners and some lanes across, so that some have to be gone along more than once.
+def lane_town(number, most_corners=3, most_across=4, most_bans=2, most_figures=1):
+    chance = random.Random(f"lanes {number}")
+    corners = "abcdefghi"[:chance.randrange(2, most_corners + 1)]
+    ends = list(zip(corners, corners[1:] + corners[0])) + [
+        tuple(chance.choices(corners, k=2)) for k in range(chance.randrange(1, most_across + 1))]
+    streets = tuple(("l" + chr(ord("a") + k), first, second, chance.randrange(1, 10 ** most_figures), 1)
+                    for k, (first, second) in enumerate(ends))
+    places = corners_of(("a", streets, ()))
+    meeting = [(one, other) for one in places for other in places if places[one][1] == places[other][0] != "a"]
+    return ("a", streets, tuple(chance.sample(meeting, min(len(meeting), chance.randrange(0, most_bans + 1)))))
+
+
+# As large as point [2] tells: thirty streets both ways, twenty bans, lengths of up to sixty figures.
+def great_town(number, many_corners=12):
+    chance = random.Random(f"great {number}")
+    corners = ["c" + chr(ord("a") + k) for k in range(many_corners)]
+    streets = tuple(
+        ("s" + chr(ord("a") + k // 6) + chr(ord("a") + k % 6), chance.choice(corners), chance.choice(corners),
+         chance.randrange(10 ** 59, 10 ** 60), 2) for k in range(30))
+    places = corners_of((corners[0], streets, ()))
+    meeting = [(one, other) for one in places for other in places if places[one][1] == places[other][0] != corners[0]]
+    return (corners[0], streets, tuple(chance.sample(meeting, min(20, len(meeting)))))

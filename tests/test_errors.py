@@ -3,15 +3,18 @@
 import unittest
 
 from kerb import errors
+from kerb.few import least
 from kerb.reach import cut, length_all
 from kerb.reader import read
 from kerb.towns import begin_of, end_of, fitted, length_of
 from kerb.turns import may_turn, turns_from, turns_into
+from kerb.ways import price_between, price_home, price_out, prices_from, way_between, way_home, way_out
 from kerb.words import words_of
 
 REFUSALS = ("NoText", "Unfit", "Unknown", "TooMany", "NoRound", "NoTown")
 
 TOWN = ("a", (("s", "a", "b", 3, 2),), ())
+FULL = ("a", tuple((name, "a", "b", 3, 2) for name in ("s", "t", "u", "v")), ())
 UNFIT = ("a", (("s", "a", "b", 0, 2),), ())
 
 DEEDS = (
@@ -32,6 +35,16 @@ DEEDS = (
     ("Unfit", lambda: read("yard a\nstreet s a b 1\nban s< s>")),
     ("Unknown", lambda: length_all(TOWN, ["s>", "t>"])),
     ("Unknown", lambda: cut(TOWN, "t>")),
+    ("Unknown", lambda: price_between(TOWN, "t>", "s>")),
+    ("Unknown", lambda: price_between(TOWN, "s>", "t>")),
+    ("Unknown", lambda: prices_from(TOWN, "t>")),
+    ("Unknown", lambda: price_out(TOWN, "t>")),
+    ("Unknown", lambda: price_home(TOWN, "t>")),
+    ("Unknown", lambda: way_between(TOWN, "t>", "s>")),
+    ("Unknown", lambda: way_between(TOWN, "s>", "t>")),
+    ("Unknown", lambda: way_out(TOWN, "t>")),
+    ("Unknown", lambda: way_home(TOWN, "t>")),
+    ("TooMany", lambda: least(FULL)),
 )
 
 

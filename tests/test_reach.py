@@ -6,24 +6,10 @@ import unittest
 from kerb.errors import Unknown
 from kerb.reach import cut, is_round, is_walk, length_all, served
 from kerb.towns import fits, sides_of
-from tests.samples import EMPTY, LENGTHS, NO_SIDES, SIDES, STREETS, corners_of, is_allowed, numbered_town
+from tests.samples import (APART, BANS, EMPTY, LENGTHS, NO_SIDES, SIDES, STREETS, corners_of, is_allowed,
+                           numbered_town)
 
-BANS = (("main>", "lane>"), ("back<", "back>"), ("ring>", "ring<"), ("spin>", "spin>"))
 TOWN = ("a", STREETS, BANS)
-
-# A street at the yard; lanes that lead away and never home; a lane that leads home from where none comes;
-# a street that hangs together with nothing.
-APART = (
-    "a",
-    (
-        ("main", "a", "b", 5, 2),
-        ("away", "b", "c", 1, 1),
-        ("end", "c", "d", 2, 2),
-        ("from", "e", "a", 3, 1),
-        ("isle", "x", "y", 4, 2),
-    ),
-    (),
-)
 
 NEAR_AND_FAR = (("near", "a", "b", 5, 2), ("far", "b", "c", 6, 2))
 # By bans alone: none comes from near into far; none comes home from far.

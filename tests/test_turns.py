@@ -6,9 +6,8 @@ import unittest
 from kerb.errors import Unknown
 from kerb.towns import fits, sides_of
 from kerb.turns import may_turn, turns_from, turns_into
-from tests.samples import EMPTY, NO_SIDES, SIDES, STREETS, is_allowed, numbered_town
+from tests.samples import BANS, EMPTY, NO_SIDES, SIDES, STREETS, is_allowed, numbered_town
 
-BANS = (("main>", "lane>"), ("back<", "back>"), ("ring>", "ring<"), ("spin>", "spin>"))
 TOWN = ("a", STREETS, BANS)
 WITHOUT_BANS = ("a", STREETS, ())
 
