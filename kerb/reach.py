@@ -1,5 +1,6 @@
 """Walks, rounds and their lengths; which sides a round can come to, and what shows of the others that none can."""
 
+from kerb.errors import NoRound
 from kerb.towns import courses_of, known_courses
 from kerb.turns import all_turns_from, all_turns_into, is_turn
 
@@ -18,6 +19,12 @@ def is_round(town, sides):
         return True
     courses = courses_of(town)
     return courses[sides[0]][0] == town[0] and courses[sides[-1]][1] == town[0]
+
+
+# Whoever asks for a round is refused here if it is none.
+def known_round(town, sides):
+    if not is_round(town, sides):
+        raise NoRound("the sides are no round of the town")
 
 
 def length_all(town, sides):

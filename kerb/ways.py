@@ -41,13 +41,17 @@ def way_home(town, side):
 
 
 # Of served sides a round: between two of them there is always a way, home and out again if no other,
-# since no turn is banned in the yard's corner.
+# since no turn is banned in the yard's corner. A round may name a side again and again, so what lies behind it
+# is searched once.
 def joined(town, sides):
     if len(sides) == 0:
         return []
     told = way_out(town, sides[0])
+    behind = {}
     for one, other in zip(sides, sides[1:]):
-        told = told + [one] + way_between(town, one, other)
+        if one not in behind:
+            behind[one] = least_behind(town, one)
+        told = told + [one] + way_ahead(behind[one], other)
     return told + [sides[-1]] + way_home(town, sides[-1])
 
 

@@ -1,5 +1,7 @@
-"""What several tests ask of: a town, what is none of its sides, towns by number, and turns by the document's words."""
+"""What several tests ask of: a town, what is none of its sides, towns and rounds by number, and turns, prices, rounds
+and towns without some streets by the document's words."""
 
+import functools
 import random
 
 # A two-way street, a lane, two streets between the same corners, a loop both ways and a loop one way.
@@ -81,7 +83,8 @@ def lengths_of(town):
 
 
 # The prices of points [12] and [13], by their words: of each two sides between which a walk leads; "" stands for the
-# yard, so ("", side) has the price out and (side, "") the price home. Side by side is let lie between.
+# yard, so ("", side) has the price out and (side, "") the price home. Side by side is let lie between. Only read.
+@functools.lru_cache(maxsize=16)
 def prices_by_words(town):
     corners = corners_of(town)
     lengths = lengths_of(town)
@@ -141,3 +144,62 @@ def great_town(number, many_corners=12):
     places = corners_of((corners[0], streets, ()))
     meeting = [(one, other) for one in places for other in places if places[one][1] == places[other][0] != corners[0]]
     return (corners[0], streets, tuple(chance.sample(meeting, min(20, len(meeting)))))
+
+
+def is_round_by_words(town, sides):
+    corners = corners_of(town)
+    if not sides:
+        return True
+    if not all(side in corners for side in sides) or corners[sides[0]][0] != town[0] or corners[sides[-1]][1] != town[0]:
+        return False
+    return all(is_allowed(town, one, other) for one, other in zip(sides, sides[1:]))
+
+
+# A round that wanders for so many sides and then goes home: along the same sides again, and through the yard's corner.
+def wandering_round(town, number, many):
+    chance = random.Random(f"round {number}")
+    corners = corners_of(town)
+    lengths = lengths_of(town)
+    prices = prices_by_words(town)
+    sides = served_by_words(town)
+    told = []
+    while sides:
+        ahead = [side for side in sides if corners[side][0] == town[0]] if not told else [
+            side for side in sides if is_allowed(town, told[-1], side)]
+        if len(told) < many:
+            told.append(chance.choice(ahead))
+        elif told and corners[told[-1]][1] != town[0]:
+            told.append(min(ahead, key=lambda side: lengths[side] + prices[(side, "")]))
+        else:
+            break
+    return told
+
+
+# Point [24], by its words.
+def town_without(town, names):
+    shut = [name + sign for name in names for sign in "<>"]
+    return (town[0], tuple(street for street in town[1] if street[0] not in names),
+            tuple(ban for ban in town[2] if not set(ban) & set(shut)))
+
+
+def some_names(town, number):
+    chance = random.Random(f"shut {number}")
+    names = [street[0] for street in town[1]]
+    return chance.sample(names, chance.randrange(0, min(3, len(names)) + 1))
+
+
+# A yard with a short street to a corner, lanes in a ring behind it, and one long street far out.
+FAR = (
+    "a",
+    (
+        ("near", "a", "b", 1, 2),
+        ("round", "b", "c", 3, 1),
+        ("trip", "c", "b", 4, 1),
+        ("long", "c", "d", 50, 2),
+        ("yardloop", "a", "a", 2, 1),
+    ),
+    (),
+)
+
+NO_TEXTS = (0, 1, 7, -1, None, True, False, 1.5, [], ["served"], ["yard", "a"], (), ("all 0",), ("a", (), ()), {},
+            {"all": 0}, {"all 0"}, b"all 0", b"served", b"", object(), len, str, ValueError)

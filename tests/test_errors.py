@@ -3,9 +3,13 @@
 import unittest
 
 from kerb import errors
+from kerb.days import led_on, without
+from kerb.desk import Desk
 from kerb.few import least
+from kerb.hands import parted
 from kerb.reach import cut, length_all
 from kerb.reader import read
+from kerb.tellings import read_round, tell
 from kerb.towns import begin_of, end_of, fitted, length_of
 from kerb.turns import may_turn, turns_from, turns_into
 from kerb.ways import price_between, price_home, price_out, prices_from, way_between, way_home, way_out
@@ -16,6 +20,13 @@ REFUSALS = ("NoText", "Unfit", "Unknown", "TooMany", "NoRound", "NoTown")
 TOWN = ("a", (("s", "a", "b", 3, 2),), ())
 FULL = ("a", tuple((name, "a", "b", 3, 2) for name in ("s", "t", "u", "v")), ())
 UNFIT = ("a", (("s", "a", "b", 0, 2),), ())
+
+
+def desk_with_town():
+    desk = Desk()
+    desk.say("town yard a;street s a b 3")
+    return desk
+
 
 DEEDS = (
     ("NoText", lambda: words_of("a  b")),
@@ -45,6 +56,26 @@ DEEDS = (
     ("Unknown", lambda: way_out(TOWN, "t>")),
     ("Unknown", lambda: way_home(TOWN, "t>")),
     ("TooMany", lambda: least(FULL)),
+    ("NoRound", lambda: parted(TOWN, ["s>"], 2)),
+    ("NoRound", lambda: parted(TOWN, ["t>"], 2)),
+    ("Unknown", lambda: without(TOWN, ["t"])),
+    ("Unknown", lambda: led_on(TOWN, ["s>", "s<"], ["t"])),
+    ("Unknown", lambda: led_on(TOWN, ["s>"], ["t"])),
+    ("NoRound", lambda: led_on(TOWN, ["s>"], ["s"])),
+    ("NoRound", lambda: tell(TOWN, ["s<"])),
+    ("NoText", lambda: read_round(TOWN, "all 1")),
+    ("NoText", lambda: read_round(TOWN, "do s> a b 3\nall 3")),
+    ("NoText", lambda: read_round(TOWN, None)),
+    ("NoText", lambda: Desk().say("")),
+    ("NoText", lambda: Desk().say(None)),
+    ("NoText", lambda: Desk().say("town yard")),
+    ("NoText", lambda: desk_with_town().say("hands 0")),
+    ("NoTown", lambda: Desk().say("served")),
+    ("NoTown", lambda: Desk().say("shut t")),
+    ("Unfit", lambda: Desk().say("town yard a;ban s> s<")),
+    ("Unknown", lambda: desk_with_town().say("shut t")),
+    ("Unknown", lambda: desk_with_town().say("open t")),
+    ("Unknown", lambda: desk_with_town().say("cut t>")),
 )
 
 
@@ -79,6 +110,9 @@ class Deeds(unittest.TestCase):
             with self.assertRaises(errors.KerbError) as caught:
                 deed()
             self.assertIs(caught.exception.__class__, getattr(errors, name))
+
+    def test_each_refusal_is_among_them(self):
+        self.assertEqual({name for name, deed in DEEDS}, set(REFUSALS))
 
     def test_the_base_and_value_error_take_each_refusal(self):
         for name, deed in DEEDS:
