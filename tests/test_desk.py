@@ -1,6 +1,7 @@
 """The desk: point [26], and the rows that the interface's part kerb/desk.py lists."""
 
 import itertools
+import re
 import unittest
 from unittest import mock
 
@@ -35,6 +36,9 @@ NO_ROWS = (
     "tell 1", "bound 1", "served>", "main>", "main", "served\tbound", "town\tyard a", "townyard a", "town;yard a",
     "TOWN yard a", "Town yard a", "towns yard a",
 )
+
+# The rows that need a town, as a whole.
+FORM = re.compile("served|bound|round|parts|long|tell|(shut|open) [a-z]{1,8}|cut [a-z]{1,8}[<>]|hands [1-9]")
 
 
 def row_of(town):
@@ -296,6 +300,27 @@ class NoTowns(Asking):
     def test_no_row_first(self):
         for row in NO_ROWS:
             self.refuses(Desk(), row, NoText)
+
+    def test_each_other_sign_at_each_place(self):
+        desk = Desk()
+        seen = {NoText: 0, NoTown: 0}
+        for row in OF_A_TOWN:
+            for place in range(len(row) + 1):
+                for code in range(128):
+                    for rest in (row[place:], row[place + 1:]):
+                        changed = row[:place] + chr(code) + rest
+                        refusal = NoTown if FORM.fullmatch(changed) else NoText
+                        seen[refusal] += 1
+                        self.refuses(desk, changed, refusal)
+        self.assertGreater(min(seen.values()), 500)
+
+    def test_parts_of_rows(self):
+        desk = Desk()
+        for row in OF_A_TOWN:
+            for first in range(len(row) + 1):
+                for last in range(first, len(row) + 1):
+                    for part in (row[first:last], row[:first] + row[last:]):
+                        self.refuses(desk, part, NoTown if FORM.fullmatch(part) else NoText)
 
 
 class Shutting(Asking):

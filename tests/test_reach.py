@@ -1,13 +1,14 @@
 """Walks, rounds, lengths, served sides and cuts: points [10] and [11], and the interface's part kerb/reach.py."""
 
 import copy
+import itertools
 import unittest
 
 from kerb.errors import Unknown
 from kerb.reach import cut, is_round, is_walk, length_all, served
 from kerb.towns import fits, sides_of
 from tests.samples import (APART, BANS, EMPTY, LENGTHS, NO_SIDES, SIDES, STREETS, corners_of, is_allowed,
-                           numbered_town)
+                           is_round_by_words, numbered_town)
 
 TOWN = ("a", STREETS, BANS)
 
@@ -149,6 +150,18 @@ class Rounds(unittest.TestCase):
         self.rounds_not("main>", "lane>", "back>", "main<")
         self.rounds_not("main>", "main>", "main<")
         self.rounds_not("main>", "lane>", "main<")
+
+    def test_each_list_of_few_sides_and_the_yard_in_each_corner(self):
+        seen = {True: 0, False: 0}
+        for yard in ("a", "b", "c", "bb"):
+            town = (yard, STREETS, tuple(ban for ban in BANS if corners_of(TOWN)[ban[0]][1] != yard))
+            self.assertIs(fits(town), True)
+            for many in range(4):
+                for sides in itertools.product(SIDES, repeat=many):
+                    told = is_round_by_words(town, list(sides))
+                    seen[told] += 1
+                    self.assertIs(is_round(town, list(sides)), told, (town, sides))
+        self.assertGreater(min(seen.values()), 40)
 
     def test_two_rounds_one_behind_the_other(self):
         one = ["main>", "main<"]
